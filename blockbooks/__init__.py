@@ -1,0 +1,1 @@
+"""Blockbooks: square tables of integers that are told by blocks, for all levels at once."""

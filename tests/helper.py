@@ -1,0 +1,115 @@
+"""What several tests need: books, a second way to work out tables, and a limit of time."""
+
+import contextlib
+import functools
+import random
+import signal
+
+ROWS_OF_BITS = [
+    ("x", 0, [[[(1, "x")], [(1, "x"), (1, "p")]], [[(1, "x"), (1, "p")], [(1, "x")]]]),
+    ("n", 0, [[[(1, "n")], [(1, "n")]], [[(1, "n")], [(1, "n"), (1, "p")]]]),
+    ("r", 0, [[[(1, "r")], [(1, "r")]], [[(1, "r"), (1, "p")], [(1, "r"), (1, "p")]]]),
+    ("c", 0, [[[(1, "c")], [(1, "c"), (1, "p")]], [[(1, "c")], [(1, "c"), (1, "p")]]]),
+    ("p", 1, [[[(2, "p")], [(2, "p")]], [[(2, "p")], [(2, "p")]]]),
+]
+
+ROWS_OF_SIGNS = [
+    ("h", 1, [[[(1, "h")], [(1, "h")]], [[(1, "h")], [(-1, "h")]]]),
+    ("d", 1, [[[(2, "d")], []], [[], [(2, "d")]]]),
+    ("s", 1, [[[(1, "s")], []], [[(1, "s")], [(1, "s")]]]),
+    ("m", 1, [[[(1, "m")], []], [[(-1, "m")], [(1, "m")]]]),
+]
+
+# Digits of the base 3: rows, columns, the sum of digits without carrying, and the powers of 3.
+ROWS_OF_THREES = [
+    ("r", 0, [[[(1, "r")] + [(i, "p")] * (i > 0) for _ in range(3)] for i in range(3)]),
+    ("c", 0, [[[(1, "c"), (j, "p")] for j in range(3)] for _ in range(3)]),
+    ("x", 0, [[[(1, "x"), ((i + j) % 3, "p")] for j in range(3)] for i in range(3)]),
+    ("p", 1, [[[(3, "p")] for _ in range(3)] for _ in range(3)]),
+    ("s", 1, [[[(1, "s")], [], []], [[(1, "s")], [(1, "s")], []], [[(1, "s")], [(2, "s")], [(1, "s")]]]),
+    ("m", 1, [[[(1, "m")], [], []], [[(-1, "m")], [(1, "m")], []], [[(1, "m")], [(-2, "m")], [(1, "m")]]]),
+]
+
+
+def zero_blocks(base):
+    """Return blocks of the right form, all of them empty."""
+    return [[[] for _ in range(base)] for _ in range(base)]
+
+
+def random_rows(seed, base, many):
+    """Return named tables of all sorts, the same ones for each seed."""
+    chance = random.Random(seed)
+    names = chance.sample("abcdefghijklmnopqrstuvwxyz", many)
+
+    def block():
+        return [(chance.randint(-9, 9), chance.choice(names)) for _ in range(chance.randint(0, 4))]
+
+    return [
+        (name, chance.randint(-99, 99), [[block() for _ in range(base)] for _ in range(base)])
+        for name in names
+    ]
+
+
+def random_shares(seed, many):
+    """Return shares, the same ones for each seed."""
+    chance = random.Random(1000 + seed)
+    return [chance.randint(-99, 99) for _ in range(many)]
+
+
+def squares_of(base, rows, level):
+    """Return the square of each named table at a level, put together out of blocks as point 4 tells."""
+    squares = {name: [[start]] for name, start, _ in rows}
+    for n in range(level):
+        squares = {name: put_together(base, blocks, squares, base ** n) for name, _, blocks in rows}
+    return squares
+
+
+def put_together(base, blocks, squares, side):
+    square = [[0] * (base * side) for _ in range(base * side)]
+    for i in range(base):
+        for j in range(base):
+            for coefficient, name in blocks[i][j]:
+                for row in range(side):
+                    for column in range(side):
+                        square[i * side + row][j * side + column] += coefficient * squares[name][row][column]
+    return square
+
+
+def mixed(squares, rows, shares):
+    """Return the sum of the multiples of the squares of the named tables."""
+    side = len(squares[rows[0][0]])
+    return [
+        [sum(share * squares[told[0]][row][column] for share, told in zip(shares, rows)) for column in range(side)]
+        for row in range(side)
+    ]
+
+
+def entry_of(base, rows, shares, level, row, column):
+    """Return one entry of a level by the words of point 4, from the last digits on."""
+    told = {name: (start, blocks) for name, start, blocks in rows}
+
+    @functools.lru_cache(maxsize=None)
+    def of_named(name, n):
+        start, blocks = told[name]
+        if n == 0:
+            return start
+        block = blocks[row // base ** (n - 1) % base][column // base ** (n - 1) % base]
+        return sum(coefficient * of_named(other, n - 1) for coefficient, other in block)
+
+    return sum(share * of_named(name, level) for share, (name, _, _) in zip(shares, rows))
+
+
+@contextlib.contextmanager
+def at_once(seconds=20):
+    """Fail if the work within takes long, so that a far level cannot hold up all tests."""
+
+    def stop(_number, _frame):
+        raise AssertionError(f"not done after {seconds} seconds")
+
+    earlier = signal.signal(signal.SIGALRM, stop)
+    signal.alarm(seconds)
+    try:
+        yield
+    finally:
+        signal.alarm(0)
+        signal.signal(signal.SIGALRM, earlier)
