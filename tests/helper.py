@@ -99,6 +99,14 @@ def entry_of(base, rows, shares, level, row, column):
     return sum(share * of_named(name, level) for share, (name, _, _) in zip(shares, rows))
 
 
+def assert_equality(test, one, other, wanted):
+    """Check that both signs, both ways round, say whether two things are equal."""
+    test.assertIs(one == other, wanted)
+    test.assertIs(other == one, wanted)
+    test.assertIs(one != other, not wanted)
+    test.assertIs(other != one, not wanted)
+
+
 @contextlib.contextmanager
 def at_once(seconds=20):
     """Fail if the work within takes long, so that a far level cannot hold up all tests."""

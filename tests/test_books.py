@@ -8,7 +8,7 @@ from unittest import mock
 from blockbooks.books import Book
 from blockbooks.errors import InvalidBase, InvalidBlocks, InvalidName
 from blockbooks.tables import Table, table_named
-from tests.helper import ROWS_OF_BITS, ROWS_OF_SIGNS, ROWS_OF_THREES, random_rows, zero_blocks
+from tests.helper import ROWS_OF_BITS, ROWS_OF_SIGNS, ROWS_OF_THREES, assert_equality, random_rows, zero_blocks
 
 
 def all_rows():
@@ -246,26 +246,20 @@ class Check(unittest.TestCase):
 class Equality(unittest.TestCase):
     """Promise 4."""
 
-    def assert_equal_both_ways(self, one, other, wanted):
-        self.assertIs(one == other, wanted)
-        self.assertIs(other == one, wanted)
-        self.assertIs(one != other, not wanted)
-        self.assertIs(other != one, not wanted)
-
     def test_equal_books(self):
         for base, rows in all_rows():
-            self.assert_equal_both_ways(Book(base, copy.deepcopy(rows)), Book(base, copy.deepcopy(rows)), True)
+            assert_equality(self, Book(base, copy.deepcopy(rows)), Book(base, copy.deepcopy(rows)), True)
         book = Book(2, ROWS_OF_BITS)
-        self.assert_equal_both_ways(book, book, True)
+        assert_equality(self, book, book, True)
 
     def test_books_of_different_samples(self):
         made = [Book(base, rows) for base, rows in all_rows()]
         for at, book in enumerate(made):
             for other in made[:at]:
-                self.assert_equal_both_ways(book, other, False)
+                assert_equality(self, book, other, False)
 
     def test_unlike_bases(self):
-        self.assert_equal_both_ways(Book(2, []), Book(3, []), False)
+        assert_equality(self, Book(2, []), Book(3, []), False)
 
     def test_unlike_in_one_thing(self):
         terms = [(1, "a"), (2, "b")]
@@ -287,7 +281,7 @@ class Equality(unittest.TestCase):
             [],
         ]
         for other in others:
-            self.assert_equal_both_ways(book, Book(2, other), False)
+            assert_equality(self, book, Book(2, other), False)
 
     def test_not_equal_to_anything_else(self):
         class Alike:
@@ -295,7 +289,7 @@ class Equality(unittest.TestCase):
 
         book = Book(2, [])
         for other in [None, 2, 0, "", [], (), (2, []), [2, []], {}, Alike(), Book, "2:", Table(Book(2, []), [])]:
-            self.assert_equal_both_ways(book, other, False)
+            assert_equality(self, book, other, False)
         self.assertIs(book == mock.ANY, False)
         self.assertIs(book != mock.ANY, True)
 

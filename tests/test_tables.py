@@ -9,8 +9,8 @@ from unittest import mock
 from blockbooks.books import Book
 from blockbooks.errors import InvalidLevel, InvalidName, InvalidNumber, InvalidPlace
 from blockbooks.tables import Table, table_named
-from tests.helper import (ROWS_OF_BITS, ROWS_OF_SIGNS, ROWS_OF_THREES, at_once, entry_of, mixed, random_rows,
-                          random_shares, squares_of, zero_blocks)
+from tests.helper import (ROWS_OF_BITS, ROWS_OF_SIGNS, ROWS_OF_THREES, assert_equality, at_once, entry_of, mixed,
+                          random_rows, random_shares, squares_of, zero_blocks)
 
 MOST = {2: 5, 3: 3}
 
@@ -29,12 +29,6 @@ def samples():
 
 class What(unittest.TestCase):
     """Promise 5."""
-
-    def assert_equal_both_ways(self, one, other, wanted):
-        self.assertIs(one == other, wanted)
-        self.assertIs(other == one, wanted)
-        self.assertIs(one != other, not wanted)
-        self.assertIs(other != one, not wanted)
 
     def test_interface(self):
         self.assertEqual(Table.__module__, "blockbooks.tables")
@@ -95,7 +89,7 @@ class What(unittest.TestCase):
         for base, rows, shares in samples():
             one = Table(Book(base, rows), shares)
             other = Table(Book(base, copy.deepcopy(rows)), list(shares))
-            self.assert_equal_both_ways(one, other, True)
+            assert_equality(self, one, other, True)
 
     def test_unlike_tables(self):
         book = Book(2, ROWS_OF_SIGNS)
@@ -104,15 +98,15 @@ class What(unittest.TestCase):
         for other in [Table(book, [1, 2, 3, 5]), Table(book, [4, 3, 2, 1]), Table(book, [0, 0, 0, 0]),
                       Table(reversed_book, [1, 2, 3, 4]), Table(reversed_book, [4, 3, 2, 1]),
                       Table(Book(2, ROWS_OF_BITS), [1, 2, 3, 4, 0])]:
-            self.assert_equal_both_ways(table, other, False)
-        self.assert_equal_both_ways(Table(Book(2, []), []), Table(Book(3, []), []), False)
-        self.assert_equal_both_ways(Table(Book(2, []), []), Table(Book(2, []), []), True)
+            assert_equality(self, table, other, False)
+        assert_equality(self, Table(Book(2, []), []), Table(Book(3, []), []), False)
+        assert_equality(self, Table(Book(2, []), []), Table(Book(2, []), []), True)
 
     def test_tables_with_the_same_entries_need_not_be_equal(self):
         book = Book(2, ROWS_OF_BITS)
         one, other = Table(book, [1, 2, 0, 0, 0]), Table(book, [0, 0, 1, 1, 0])
         self.assertEqual(one.written(4), other.written(4))
-        self.assert_equal_both_ways(one, other, False)
+        assert_equality(self, one, other, False)
 
     def test_not_equal_to_anything_else(self):
         class Alike:
@@ -120,7 +114,7 @@ class What(unittest.TestCase):
 
         table = Table(Book(2, []), [])
         for other in [None, 0, "", [], (), (Book(2, []), []), Book(2, []), {}, Alike(), Table]:
-            self.assert_equal_both_ways(table, other, False)
+            assert_equality(self, table, other, False)
         self.assertIs(table == mock.ANY, False)
         self.assertIs(table != mock.ANY, True)
 
