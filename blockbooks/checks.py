@@ -1,6 +1,7 @@
 """The checks that the document names, each in the sequence that it tells."""
 
-from blockbooks.errors import InvalidBase, InvalidBlocks, InvalidLevel, InvalidName, InvalidPlace
+from blockbooks.errors import InvalidArea, InvalidBase, InvalidBlocks, InvalidLevel
+from blockbooks.errors import InvalidName, InvalidPlace, UnlikeBases
 from blockbooks.places import side_of
 
 
@@ -21,11 +22,28 @@ def check_level(level):
         raise InvalidLevel(level)
 
 
-def check_place(base, level, row, column):
-    """Raise InvalidPlace for a place that is not within a level."""
+def check_place(base, level, spot):
+    """Raise InvalidPlace for a tuple (row, column) that is not within a level."""
+    row, column = spot
     side = side_of(base, level)
     if not (0 <= row < side and 0 <= column < side):
-        raise InvalidPlace((row, column))
+        raise InvalidPlace(spot)
+
+
+def check_area(base, level, first, last):
+    """Raise the error of the first thing that is wrong with the corners of a rectangle of a level."""
+    check_place(base, level, first)
+    check_place(base, level, last)
+    if last[0] < first[0] or last[1] < first[1]:
+        raise InvalidArea((first, last))
+
+
+def check_bases(tables):
+    """Raise UnlikeBases for the first table whose base is not that of the first one. There must be a table."""
+    bases = [table.book.base for table in tables]
+    for base in bases:
+        if base != bases[0]:
+            raise UnlikeBases((bases[0], base))
 
 
 def _check_names(names):

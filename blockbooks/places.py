@@ -17,3 +17,11 @@ def digits_of(number, base, level):
         number = number // base
     digits.reverse()
     return digits
+
+
+def number_of(digits, base):
+    """Return the row with these block rows, or the column with these block columns."""
+    number = 0
+    for digit in digits:
+        number = number * base + digit
+    return number

@@ -28,20 +28,21 @@ class Table:
         """Return the entry of a level in a row and a column."""
         base = self._book.base
         check_level(level)
-        check_place(base, level, row, column)
+        check_place(base, level, (row, column))
         shares = self._shares
         # Each block of a table is a table of the same book again, so one walk inwards is enough.
         for block_row, block_column in zip(digits_of(row, base, level), digits_of(column, base, level)):
-            shares = self._book.block_shares(shares, block_row, block_column)
-        return self._book.first_entry(shares)
+            shares = self._book.system.block_shares(shares, block_row, block_column)
+        return self._book.system.first_entry(shares)
 
     def written(self, level):
         """Return the list of the rows of a level."""
         check_level(level)
+        system = self._book.system
         grid = [[self._shares]]
         for _ in range(level):
-            grid = _cut(self._book, grid)
-        return [[self._book.first_entry(shares) for shares in line] for line in grid]
+            grid = _cut(system, grid)
+        return [[system.first_entry(shares) for shares in line] for line in grid]
 
     def __eq__(self, other):
         return isinstance(other, Table) and self._book == other._book and self._shares == other._shares
@@ -55,11 +56,11 @@ def table_named(book, name):
     return Table(book, [1 if other == name else 0 for other in names])
 
 
-def _cut(book, grid):
+def _cut(system, grid):
     """Return a grid in which the shares of each table give way to those of its blocks."""
-    sides = range(book.base)
+    sides = range(system.base)
     return [
-        [book.block_shares(shares, row, column) for shares in line for column in sides]
+        [system.block_shares(shares, row, column) for shares in line for column in sides]
         for line in grid
         for row in sides
     ]

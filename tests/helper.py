@@ -121,3 +121,50 @@ def at_once(seconds=20):
     finally:
         signal.alarm(0)
         signal.signal(signal.SIGALRM, earlier)
+
+
+def sparse_rows(seed, base, many):
+    """Return named tables most of whose blocks are empty, so that much comes late, the same ones for each seed."""
+    chance = random.Random(2000 + seed)
+    names = chance.sample("abcdefghijklmnopqrstuvwxyz", many)
+    full = chance.choice([1, 2, 4]) / (2 * base * base)
+
+    def block():
+        few = chance.randint(1, 2) if chance.random() < full else 0
+        return [(chance.choice([-9, -2, -1, 1, 1, 2, 3, 6]), chance.choice(names)) for _ in range(few)]
+
+    return [
+        (name, chance.choice([0, 0, 1, -4, 6]), [[block() for _ in range(base)] for _ in range(base)])
+        for name in names
+    ]
+
+
+def chain_rows(base, spots, coefficients, start, names="abcdefghijklmnopqrstuvwxyz"):
+    """Return named tables the first one of which is not 0 at one place of one level alone.
+
+    The spots are the blocks (row, column) in which the place lies, the widest one first; the entry
+    there is the product of the coefficients and the start.
+    """
+    rows = []
+    for at, ((i, j), coefficient) in enumerate(zip(spots, coefficients)):
+        blocks = zero_blocks(base)
+        blocks[i][j] = [(coefficient, names[at + 1])]
+        rows.append((names[at], 0, blocks))
+    return rows + [(names[len(spots)], start, zero_blocks(base))]
+
+
+def place_of(base, spots):
+    """Return the place (level, row, column) that lies in these blocks."""
+    row = column = 0
+    for i, j in spots:
+        row, column = row * base + i, column * base + j
+    return len(spots), row, column
+
+
+def assert_error(test, kind, value, call, *told, **named):
+    """Check that a call raises an error of this very class with this value."""
+    with test.assertRaises(kind) as caught:
+        call(*told, **named)
+    test.assertIs(type(caught.exception), kind)
+    test.assertEqual(caught.exception.value, value)
+    test.assertIs(type(caught.exception.value), type(value))

@@ -1,6 +1,7 @@
 """Rules of the language of the program that can be read off its files."""
 
 import ast
+import builtins
 import pathlib
 import unittest
 
@@ -28,6 +29,10 @@ def nodes(kind):
                 yield name, node
 
 
+def own_imports():
+    return [(name, node) for name, node in nodes(ast.ImportFrom) if node.module.startswith("blockbooks.")]
+
+
 class Language(unittest.TestCase):
 
     def test_files(self):
@@ -48,12 +53,15 @@ class Language(unittest.TestCase):
         self.assertEqual(list(nodes(ast.Import)), [])
         for name, node in nodes(ast.ImportFrom):
             self.assertEqual(node.level, 0, name)
-            self.assertTrue(node.module.startswith("blockbooks."), (name, node.module))
             self.assertTrue(all(item.asname is None and item.name != "*" for item in node.names), name)
+            if node.module == "math":
+                self.assertEqual([item.name for item in node.names], ["gcd"], name)
+            else:
+                self.assertTrue(node.module.startswith("blockbooks."), (name, node.module))
 
     def test_no_file_imports_itself_through_others(self):
         above = {name: [] for name in texts()}
-        for name, node in nodes(ast.ImportFrom):
+        for name, node in own_imports():
             above[name].append(node.module.partition(".")[2] + ".py")
         done = []
         while len(done) < len(above):
@@ -74,11 +82,36 @@ class Language(unittest.TestCase):
                 self.assertEqual(ast.unparse(item), "property", (name, node.name))
 
     def test_calls(self):
-        own = {node.name for _, node in nodes((ast.FunctionDef, ast.ClassDef))}
+        own = {node.name for _, node in nodes((ast.FunctionDef, ast.ClassDef))} | {"gcd", "onward"}
         for name, node in nodes(ast.Call):
             called = node.func.id if isinstance(node.func, ast.Name) else node.func.attr
             allowed = BUILTINS if isinstance(node.func, ast.Name) else METHODS
             self.assertTrue(called in own or called in allowed, (name, node.lineno, called))
+
+    def test_names_are_imported_from_where_they_are_defined(self):
+        defined = {}
+        for name, tree in [(name, ast.parse(text)) for name, text in texts().items()]:
+            for node in tree.body:
+                if isinstance(node, (ast.FunctionDef, ast.ClassDef)):
+                    defined.setdefault(name, []).append(node.name)
+        for name, node in own_imports():
+            for item in node.names:
+                self.assertIn(item.name, defined[node.module.partition(".")[2] + ".py"], name)
+
+    def test_no_variable_has_the_name_of_an_import_or_a_class_or_a_builtin(self):
+        for name, text in texts().items():
+            tree = ast.parse(text)
+            taken = {item.name for node in ast.walk(tree) if isinstance(node, ast.ImportFrom) for item in node.names}
+            taken |= {node.name for node in tree.body if isinstance(node, ast.ClassDef)} | set(dir(builtins))
+            for node in ast.walk(tree):
+                if isinstance(node, ast.Name) and isinstance(node.ctx, ast.Store):
+                    self.assertNotIn(node.id, taken, (name, node.lineno))
+                if isinstance(node, ast.arg):
+                    self.assertNotIn(node.arg, taken, (name, node.lineno))
+
+    def test_builtins_take_lists_and_no_generator_expressions(self):
+        # A class has an __eq__, so any, all, sum and the like take a list.
+        self.assertEqual([(name, node.lineno) for name, node in nodes((ast.GeneratorExp, ast.SetComp))], [])
 
 
 if __name__ == "__main__":

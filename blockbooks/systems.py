@@ -1,0 +1,96 @@
+"""Systems: the tables of books by indices instead of names, and the two ways to go through levels."""
+
+from blockbooks.vectors import times
+
+
+class System:
+    """Tables that are told by blocks of each other. It never changes.
+
+    A list of shares tells a sum of multiples of its tables; a list of entries tells what each of its
+    tables is at one and the same place.
+    """
+
+    def __init__(self, base, starts, steps):
+        self._base = base
+        self.starts = starts
+        # By block row and block column, for each table the terms (coefficient, index) of this block.
+        self.steps = steps
+
+    @property
+    def base(self):
+        """The base, 2 or 3."""
+        return self._base
+
+    def first_entry(self, shares):
+        """Return the entry at level 0 of the table with these shares."""
+        return times(shares, self.starts)
+
+    def block_shares(self, shares, row, column):
+        """Return the shares of one block of the table with these shares."""
+        found = [0] * len(shares)
+        for share, terms in zip(shares, self.steps[row][column]):
+            for coefficient, at in terms:
+                found[at] += share * coefficient
+        return found
+
+    def all_blocks(self, shares):
+        """Return the list of the shares of all blocks of the table with these shares."""
+        sides = range(self._base)
+        return [self.block_shares(shares, row, column) for row in sides for column in sides]
+
+    def wider_entries(self, entries, row, column):
+        """Return the entries one level further, at the place that is this one within this block."""
+        return [sum([coefficient * entries[at] for coefficient, at in terms]) for terms in self.steps[row][column]]
+
+    def all_wider(self, entries):
+        """Return the list of the entries one level further, at the places that are this one within a block."""
+        sides = range(self._base)
+        return [self.wider_entries(entries, row, column) for row in sides for column in sides]
+
+
+def system_of(base, named):
+    """Return the system of the named tables of a book."""
+    sides = range(base)
+    steps = [[_step(named, row, column) for column in sides] for row in sides]
+    return System(base, [start for _, start, _ in named], steps)
+
+
+def on_one_system(tables):
+    """Return a system that holds the books of all tables, and the list of their shares in it.
+
+    There must be a table, and all must have the same base.
+    """
+    books = []
+    for table in tables:
+        if table.book not in books:
+            books.append(table.book)
+    whole = _side_by_side([book.system for book in books])
+    widths = [len(book.names) for book in books]
+    shares_there = []
+    for table in tables:
+        at = books.index(table.book)
+        shares_there.append([0] * sum(widths[:at]) + table.shares + [0] * sum(widths[at + 1:]))
+    return whole, shares_there
+
+
+def _step(named, row, column):
+    """Return, for each named table, the terms (coefficient, index) of its block in one place."""
+    names = [told[0] for told in named]
+    blocks_there = [told[2][row][column] for told in named]
+    return [[(coefficient, names.index(name)) for coefficient, name in block] for block in blocks_there]
+
+
+def _side_by_side(systems):
+    base = systems[0].base
+    starts = []
+    steps = [[[] for _ in range(base)] for _ in range(base)]
+    for system in systems:
+        for row in range(base):
+            for column in range(base):
+                steps[row][column].extend(_moved(system.steps[row][column], len(starts)))
+        starts = starts + system.starts
+    return System(base, starts, steps)
+
+
+def _moved(step, by):
+    return [[(coefficient, at + by) for coefficient, at in terms] for terms in step]

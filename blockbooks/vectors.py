@@ -1,0 +1,71 @@
+"""Vectors: lists of integers of one length, and the spans of several of them."""
+
+from math import gcd
+
+
+def times(numbers, others):
+    """Return the sum of the products of the numbers of two vectors."""
+    return sum([number * other for number, other in zip(numbers, others)])
+
+
+def mixed(factor, numbers, other_factor, others):
+    """Return the sum of multiples of two vectors."""
+    return [factor * number + other_factor * other for number, other in zip(numbers, others)]
+
+
+def first_at(numbers):
+    """Return the index of the first number that is not 0. There must be one."""
+    at = 0
+    while numbers[at] == 0:
+        at += 1
+    return at
+
+
+def without_factor(numbers):
+    """Return a vector divided by the greatest common factor of its numbers."""
+    factor = 0
+    for number in numbers:
+        factor = gcd(factor, number)
+    return [number // factor for number in numbers] if factor > 1 else list(numbers)
+
+
+class Span:
+    """All vectors of which a multiple is a sum of multiples of those that were taken."""
+
+    def __init__(self):
+        # Each row has a 0 at the index of every row before it, so one pass through them is enough.
+        self._rows = []
+
+    def rest_of(self, vector):
+        """Return what a vector, or a multiple of it, adds to the span: all 0 if it adds nothing."""
+        rest = vector
+        for at, row in self._rows:
+            if rest[at] != 0:
+                factor = gcd(row[at], rest[at])
+                # Common factors are taken out each time, since the numbers would double in length each time.
+                rest = without_factor(mixed(row[at] // factor, rest, -(rest[at] // factor), row))
+        return rest
+
+    def take(self, rest):
+        """Make the span larger by what `rest_of` has returned, which must not be all 0."""
+        self._rows.append((first_at(rest), rest))
+
+
+def gathered(first, onward, kept):
+    """Return, round by round, what a span or a lattice takes of a vector and of all that comes from it.
+
+    A round is made of what `onward` returns for each vector that was taken in the round before.
+    """
+    rounds = []
+    latest = [first]
+    while latest:
+        taken = []
+        for vector in latest:
+            rest = kept.rest_of(vector)
+            if any(rest):
+                kept.take(rest)
+                taken.append(rest)
+        if taken:
+            rounds.append(taken)
+        latest = [further for rest in taken for further in onward(rest)]
+    return rounds
