@@ -93,7 +93,6 @@ def _first_columns(system, tables, rows):
 
 def _first_choice(system, tables, choices, several_entries):
     """Return the number of the first choice of blocks in which there is something, and what there is."""
-    at, found = 0, []
     for at, blocks in enumerate(choices):
         within = [system.block_shares(shares, row, column) for shares in tables for row, column in blocks]
         found = _apart(within, several_entries)

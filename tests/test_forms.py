@@ -253,7 +253,7 @@ class Nodes(unittest.TestCase):
             (threes, "r", [(0, 0, 0), (1, 1, 0)]), (threes, "c", [(0, 0, 0), (1, 0, 1)]), (threes, "s", [(0, 0, 0)]),
         ]:
             self.assertEqual(nodes_of(table_named(book, name)), wanted)
-        # Among all of them: the last number is that of x, which rows and columns do not tell.
+        # The blocks of such a sum are itself and multiples of the power, nothing else.
         self.assertEqual(nodes_of(Table(bits, [1, 0, 2, 4, 0])), [(0, 0, 0), (1, 0, 1)])
 
     def test_places_are_ordered_by_rows_and_not_by_blocks(self):
