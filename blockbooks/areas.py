@@ -2,7 +2,7 @@
 
 from blockbooks.checks import check_area, check_level
 from blockbooks.places import digits_of
-from blockbooks.vectors import mixed
+from blockbooks.vectors import mixed, times
 
 # What of the rows, or of the columns, of a block belongs to a rectangle: all, those from its first
 # one on, those up to its last one, or those from its first one up to its last one.
@@ -14,13 +14,14 @@ INNER = 3
 
 def total_at(table, level):
     """Return the sum of all entries of a level."""
-    sides = range(table.book.base)
-    return _sum_over(table, level, [(row, column) for row in sides for column in sides])
+    check_level(level)
+    return times(table.shares, table.book.system.totals().at(level))
 
 
 def trace_at(table, level):
     """Return the sum of the entries of a level whose row is their column."""
-    return _sum_over(table, level, [(side, side) for side in range(table.book.base)])
+    check_level(level)
+    return times(table.shares, table.book.system.traces().at(level))
 
 
 def area_sum(table, level, first, last):
@@ -35,18 +36,6 @@ def area_sum(table, level, first, last):
         kept = _within(system, kept, _parts(base, row, last_row), _parts(base, column, last_column))
     # At level 0 each part is the one place that there is.
     return sum([system.first_entry(shares) for shares in kept.values()])
-
-
-def _sum_over(table, level, blocks):
-    """Return the sum of the entries of a level that lie in these blocks of these blocks, and so on."""
-    check_level(level)
-    system, shares = table.book.system, table.shares
-    for _ in range(level):
-        found = [0] * len(shares)
-        for row, column in blocks:
-            found = mixed(1, found, 1, system.block_shares(shares, row, column))
-        shares = found
-    return system.first_entry(shares)
 
 
 def _parts(base, first, last):

@@ -2,7 +2,7 @@
 
 from blockbooks.books import Book
 from blockbooks.lattices import Lattice
-from blockbooks.nodes import nodes_among
+from blockbooks.nodes import kin_of, nodes_among
 from blockbooks.tables import Table
 from blockbooks.vectors import Span, gathered, times
 
@@ -11,17 +11,28 @@ LETTERS = "abcdefghijklmnopqrstuvwxyz"
 
 def plain(table):
     """Return the plain table of a table."""
-    system = table.book.system
-    kin = Lattice(len(table.shares))
-    gathered(table.shares, system.all_blocks, kin)
-    nodes = [entries for _, entries in nodes_among(system, kin.rows())]
-    lattice = _lattice_at(nodes, kin.rows())
+    return plain_of(table.book.system, table.shares)
+
+
+def plain_of(system, shares):
+    """Return the plain table of the table with these shares in a system."""
+    kin = Lattice(len(shares))
+    gathered(shares, system.all_blocks, kin)
+    rows = kin.rows()
+    nodes = [entries for _, entries in nodes_among(system, lambda at_place: _worths(rows, at_place))]
+    lattice = _lattice_at(nodes, rows)
     several_shares = [row[len(nodes):] for row in lattice.rows()]
     named = [
-        (name, system.first_entry(shares), _plain_blocks(system, nodes, lattice, shares))
-        for name, shares in zip(LETTERS, several_shares)
+        (name, system.first_entry(some), _plain_blocks(system, nodes, lattice, some))
+        for name, some in zip(LETTERS, several_shares)
     ]
-    return Table(Book(system.base, named), lattice.parts_of(_entries_of(table.shares, nodes)))
+    return Table(Book(system.base, named), lattice.parts_of(_entries_of(shares, nodes)))
+
+
+def plainly_told(table):
+    """Return a table as a tuple (system, shares), by as few named tables as can be."""
+    form = plain(table)
+    return form.book.system, form.shares
 
 
 def rank_of(table):
@@ -32,12 +43,17 @@ def rank_of(table):
 def nodes_of(table):
     """Return the ascending list of the nodes of a table."""
     system = table.book.system
-    rounds = gathered(table.shares, system.all_blocks, Span())
-    kin = [shares for taken in rounds for shares in taken]
-    return [place for place, _ in nodes_among(system, kin)]
+    kin = kin_of(system, table.shares)
+    return [place for place, _ in nodes_among(system, lambda at_place: _worths(kin, at_place))]
+
+
+def _worths(kin, entries):
+    """Return what each kin is at the place of these entries."""
+    return [times(shares, entries) for shares in kin]
 
 
 def _entries_of(shares, nodes):
+    """Return what a table is at each of the nodes."""
     return [times(shares, entries) for entries in nodes]
 
 

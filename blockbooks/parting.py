@@ -1,22 +1,16 @@
 """Where two tables part, and which tables are alike."""
 
 from blockbooks.checks import check_bases
-from blockbooks.nodes import entries_at, first_place, fresh_entries, telling_entries
+from blockbooks.nodes import first_worth, telling_entries
 from blockbooks.systems import on_one_system
-from blockbooks.vectors import mixed, times
+from blockbooks.vectors import mixed
 
 
 def parting(table, other_table):
     """Return (level, row, column, difference) of the first place where two tables are unlike, or None."""
     check_bases([table, other_table])
     system, (shares, other_shares) = on_one_system([table, other_table])
-    difference = mixed(1, shares, -1, other_shares)
-    fresh = fresh_entries(system)
-    for level in range(len(fresh)):
-        place = first_place(system, [difference], level, fresh)
-        if place is not None:
-            return (*place, times(difference, entries_at(system, place)))
-    return None
+    return first_worth(system, mixed(1, shares, -1, other_shares))
 
 
 def are_alike(table, other_table):

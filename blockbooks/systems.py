@@ -1,10 +1,11 @@
 """Systems: the tables of books by indices instead of names, and the two ways to go through levels."""
 
+from blockbooks.sums import Sums
 from blockbooks.vectors import times
 
 
 class System:
-    """Tables that are told by blocks of each other. It never changes.
+    """Tables that are told by blocks of each other. What it tells never changes.
 
     A list of shares tells a sum of multiples of its tables; a list of entries tells what each of its
     tables is at one and the same place.
@@ -15,11 +16,26 @@ class System:
         self.starts = starts
         # By block row and block column, for each table the terms (coefficient, index) of this block.
         self.steps = steps
+        self._totals = None
+        self._traces = None
 
     @property
     def base(self):
         """The base, 2 or 3."""
         return self._base
+
+    def totals(self):
+        """Return the Sums of all entries."""
+        if self._totals is None:
+            sides = range(self._base)
+            self._totals = Sums(self.starts, self._summed([(row, column) for row in sides for column in sides]))
+        return self._totals
+
+    def traces(self):
+        """Return the Sums of the entries whose row is their column."""
+        if self._traces is None:
+            self._traces = Sums(self.starts, self._summed([(side, side) for side in range(self._base)]))
+        return self._traces
 
     def first_entry(self, shares):
         """Return the entry at level 0 of the table with these shares."""
@@ -47,6 +63,15 @@ class System:
         sides = range(self._base)
         return [self.wider_entries(entries, row, column) for row in sides for column in sides]
 
+    def _summed(self, spots):
+        """Return, for each table, how much of each table there is in its blocks at some spots together."""
+        found = [[0] * len(self.starts) for _ in self.starts]
+        for row, column in spots:
+            for at, terms in enumerate(self.steps[row][column]):
+                for coefficient, other in terms:
+                    found[at][other] += coefficient
+        return found
+
 
 def system_of(base, named):
     """Return the system of the named tables of a book."""
@@ -64,7 +89,7 @@ def on_one_system(tables):
     for table in tables:
         if table.book not in books:
             books.append(table.book)
-    whole = _side_by_side([book.system for book in books])
+    whole = side_by_side(tables[0].book.base, [book.system for book in books])
     widths = [len(book.names) for book in books]
     shares_there = []
     for table in tables:
@@ -80,8 +105,8 @@ def _step(named, row, column):
     return [[(coefficient, names.index(name)) for coefficient, name in block] for block in blocks_there]
 
 
-def _side_by_side(systems):
-    base = systems[0].base
+def side_by_side(base, systems):
+    """Return a system that holds the tables of several systems of a base, one system behind the other."""
     starts = []
     steps = [[[] for _ in range(base)] for _ in range(base)]
     for system in systems:

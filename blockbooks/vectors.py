@@ -38,6 +38,9 @@ class Span:
 
     def rest_of(self, vector):
         """Return what a vector, or a multiple of it, adds to the span: all 0 if it adds nothing."""
+        if len(self._rows) == len(vector):
+            # Nothing is missing any more.
+            return [0] * len(vector)
         rest = vector
         for at, row in self._rows:
             if rest[at] != 0:

@@ -5,6 +5,10 @@ import functools
 import random
 import signal
 
+from blockbooks.books import Book
+from blockbooks.forms import plain
+from blockbooks.tables import Table, table_named
+
 ROWS_OF_BITS = [
     ("x", 0, [[[(1, "x")], [(1, "x"), (1, "p")]], [[(1, "x"), (1, "p")], [(1, "x")]]]),
     ("n", 0, [[[(1, "n")], [(1, "n")]], [[(1, "n")], [(1, "n"), (1, "p")]]]),
@@ -168,3 +172,89 @@ def assert_error(test, kind, value, call, *told, **named):
     test.assertIs(type(caught.exception), kind)
     test.assertEqual(caught.exception.value, value)
     test.assertIs(type(caught.exception.value), type(value))
+
+
+def book_of(kind):
+    """Return the book of the bits, of the signs or of the threes, made anew."""
+    base, rows = {"bits": (2, ROWS_OF_BITS), "signs": (2, ROWS_OF_SIGNS), "threes": (3, ROWS_OF_THREES)}[kind]
+    return Book(base, rows)
+
+
+def spot_table(base, spots, number=1):
+    """Return a table, in a book of its own, that is a number at one place of one level and 0 elsewhere."""
+    return table_named(Book(base, chain_rows(base, spots, [1] * len(spots), number)), "a")
+
+
+def nothing(base):
+    """Return the table that is always 0 of a book without named tables."""
+    return Table(Book(base, []), [])
+
+
+def ring_rows(base, many, spot=(0, 0), start=1, names="abcdefghijklmnopqrstuvwxyz"):
+    """Return named tables that lead to one another by one block in a ring; all but the first start with 0."""
+    rows = []
+    for at in range(many):
+        blocks = zero_blocks(base)
+        blocks[spot[0]][spot[1]] = [(1, names[(at + 1) % many])]
+        rows.append((names[at], start if at == 0 else 0, blocks))
+    return rows
+
+
+def random_table(seed, base, many, sparse=False):
+    """Return a table of a book of named tables of all sorts, the same one for each seed."""
+    rows = sparse_rows(seed, base, many) if sparse else random_rows(seed, base, many)
+    return Table(Book(base, rows), random_shares(seed, many))
+
+
+def blocks_of_table(table):
+    """Return the lists of the blocks of a table, as tables of the same book, by the words of point 4."""
+    base, book = table.book.base, table.book
+    found = []
+    for i in range(base):
+        line = []
+        for j in range(base):
+            shares = [0] * len(book.names)
+            for share, name in zip(table.shares, book.names):
+                for coefficient, other in book.blocks_of(name)[i][j]:
+                    shares[book.names.index(other)] += share * coefficient
+            line.append(Table(book, shares))
+        found.append(line)
+    return found
+
+
+def near_levels(base):
+    """Return the levels that are small enough to be written out often."""
+    return range({2: 5, 3: 4}[base])
+
+
+def multiplied(rows, others):
+    """Return the product of two squares, rows times columns."""
+    columns = list(zip(*others))
+    return [[sum(a * b for a, b in zip(row, column)) for column in columns] for row in rows]
+
+
+def turned(rows):
+    return [list(column) for column in zip(*rows)]
+
+
+def combined(squares, numbers):
+    """Return the sum of multiples of squares."""
+    return [[sum(n * entry for n, entry in zip(numbers, entries)) for entries in zip(*lines)] for lines in zip(*squares)]
+
+
+def unit_square(side):
+    return [[int(row == column) for column in range(side)] for row in range(side)]
+
+
+def spots_far(seed, base, level, many=4):
+    """Return some places (row, column) of a level, its ends among them, the same ones for each seed."""
+    chance = random.Random(seed)
+    last = base ** level - 1
+    found = [(0, 0), (last, last), (0, last)]
+    return found + [(chance.randint(0, last), chance.randint(0, last)) for _ in range(many)]
+
+
+def assert_plain(test, table):
+    """Check that a table is the very one that `plain` returns for it."""
+    test.assertIs(type(table), Table)
+    test.assertEqual(plain(table), table)

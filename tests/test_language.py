@@ -10,7 +10,8 @@ METHODS = {
     "append", "clear", "copy", "count", "endswith", "extend", "find", "get", "index", "insert", "isalnum", "isalpha",
     "isdigit", "islower", "isspace", "isupper", "items", "join", "keys", "ljust", "lower", "lstrip", "partition", "pop",
     "remove", "replace", "reverse", "rfind", "rjust", "rpartition", "rsplit", "rstrip", "setdefault", "split",
-    "splitlines", "startswith", "strip", "update", "upper", "values", "zfill", "bit_length", "__init__",
+    "splitlines", "startswith", "strip", "update", "upper", "values", "zfill", "bit_length", "removeprefix",
+    "__init__",
 }
 BUILTINS = {
     "len", "range", "enumerate", "zip", "min", "max", "sum", "abs", "sorted", "reversed", "int", "str", "bool", "list",
@@ -82,7 +83,7 @@ class Language(unittest.TestCase):
                 self.assertEqual(ast.unparse(item), "property", (name, node.name))
 
     def test_calls(self):
-        own = {node.name for _, node in nodes((ast.FunctionDef, ast.ClassDef))} | {"gcd", "onward"}
+        own = {node.name for _, node in nodes((ast.FunctionDef, ast.ClassDef))} | {"gcd", "onward", "worths_of", "super"}
         for name, node in nodes(ast.Call):
             called = node.func.id if isinstance(node.func, ast.Name) else node.func.attr
             allowed = BUILTINS if isinstance(node.func, ast.Name) else METHODS
