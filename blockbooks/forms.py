@@ -11,11 +11,12 @@ LETTERS = "abcdefghijklmnopqrstuvwxyz"
 
 def plain(table):
     """Return the plain table of a table."""
-    return plain_of(table.book.system, table.shares)
+    return plain_of((table.book.system, table.shares))
 
 
-def plain_of(system, shares):
-    """Return the plain table of the table with these shares in a system."""
+def plain_of(told):
+    """Return the plain table of a table that is told by a tuple (system, shares)."""
+    system, shares = told
     kin = Lattice(len(shares))
     gathered(shares, system.all_blocks, kin)
     rows = kin.rows()

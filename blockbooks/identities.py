@@ -13,14 +13,14 @@ from blockbooks.tables import Table, table_named
 def side_table(book, side):
     """Return the plain table of a side."""
     check_side(book.names, side)
-    return plain_of(*_side_of(book, side))
+    return plain_of(_side_of(book, side))
 
 
 def identity_parts(book, side, other_side):
     """Return (level, row, column, difference) of the first place where two sides part, or None."""
     check_side(book.names, side)
     check_side(book.names, other_side)
-    return first_worth(*_side_of(book, side + [(-coefficient, word) for coefficient, word in other_side]))
+    return first_worth(_side_of(book, side + [(-coefficient, word) for coefficient, word in other_side]))
 
 
 def identity_of(base):

@@ -24,8 +24,12 @@ def nodes_among(system, worths_of):
         latest = _further(system, taken)
 
 
-def first_worth(system, shares):
-    """Return (level, row, column, entry) of the first place at which a table is not 0, or None."""
+def first_worth(told):
+    """Return (level, row, column, entry) of the first place at which a table is not 0, or None.
+
+    The table is told by a tuple (system, shares).
+    """
+    system, shares = told
     # The first place of a table is always a node of all tables of its system.
     for place, entries in nodes_among(system, lambda entries: entries):
         worth = times(shares, entries)

@@ -10,7 +10,7 @@ def parting(table, other_table):
     """Return (level, row, column, difference) of the first place where two tables are unlike, or None."""
     check_bases([table, other_table])
     system, (shares, other_shares) = on_one_system([table, other_table])
-    return first_worth(system, mixed(1, shares, -1, other_shares))
+    return first_worth((system, mixed(1, shares, -1, other_shares)))
 
 
 def are_alike(table, other_table):

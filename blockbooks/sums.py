@@ -1,6 +1,6 @@
 """Sums that the tables of a system have at a level, each level worked out once for all that ask."""
 
-from blockbooks.vectors import times
+from blockbooks.vectors import packed, spared, stepped
 
 
 class Sums:
@@ -11,6 +11,7 @@ class Sums:
 
     def __init__(self, starts, step):
         self.step = step
+        self._packed = packed(step)
         # The levels that were asked for, and those below them: nothing else is ever kept.
         self._levels = [starts]
 
@@ -18,5 +19,5 @@ class Sums:
         """Return the list of the sums of a level, one for each table."""
         while len(self._levels) <= level:
             latest = self._levels[-1]
-            self._levels.append([times(line, latest) for line in self.step])
+            self._levels.append(stepped([0] * len(latest), self._packed, spared(latest)))
         return list(self._levels[level])

@@ -1,5 +1,6 @@
 """Systems: the tables of books by indices instead of names, and the two ways to go through levels."""
 
+from blockbooks.corners import Corners
 from blockbooks.sums import Sums
 from blockbooks.vectors import times
 
@@ -18,6 +19,8 @@ class System:
         self.steps = steps
         self._totals = None
         self._traces = None
+        self._corners = None
+        self._parts = {}
 
     @property
     def base(self):
@@ -36,6 +39,49 @@ class System:
         if self._traces is None:
             self._traces = Sums(self.starts, self._summed([(side, side) for side in range(self._base)]))
         return self._traces
+
+    def corners(self):
+        """Return the Corners of all levels."""
+        if self._corners is None:
+            self._corners = Corners(self._base, self.steps, self.totals())
+        return self._corners
+
+    def part_of(self, shares):
+        """Return a system of those tables alone of which a table and its blocks are made, and its shares there."""
+        played = tuple([share != 0 for share in shares])
+        if played not in self._parts:
+            self._parts[played] = self._new_part([at for at, plays in enumerate(played) if plays])
+        part, indices = self._parts[played]
+        return part, [shares[at] for at in indices]
+
+    def _new_part(self, indices):
+        reached = list(indices)
+        done = 0
+        while done < len(reached):
+            terms = [term for line in self.steps for step in line for term in step[reached[done]]]
+            for coefficient, other in terms:
+                if coefficient != 0 and other not in reached:
+                    reached.append(other)
+            done += 1
+        reached = sorted(reached)
+        for part, others in self._parts.values():
+            if others == reached:
+                return part, reached
+        if len(reached) == len(self.starts):
+            return self, reached
+        return self._only(reached), reached
+
+    def _only(self, indices):
+        """Return a system of those tables alone that have these indices."""
+        to = {at: new for new, at in enumerate(indices)}
+        steps = [
+            [
+                [[(number, to[other]) for number, other in step[at] if number != 0] for at in indices]
+                for step in line
+            ]
+            for line in self.steps
+        ]
+        return System(self._base, [self.starts[at] for at in indices], steps)
 
     def first_entry(self, shares):
         """Return the entry at level 0 of the table with these shares."""

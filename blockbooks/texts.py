@@ -9,8 +9,8 @@ def show_book(book):
 
 def show_table(table):
     """Return the text of a table."""
-    shares = " ".join([str(share) for share in table.shares])
-    return f"{shares or 'none'} of {show_book(table.book)}"
+    shares = " ".join([str(share) for share in table.shares]) or "none"
+    return shares + " of " + show_book(table.book)
 
 
 def _show_named(name, start, blocks):

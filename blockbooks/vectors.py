@@ -2,6 +2,9 @@
 
 from math import gcd
 
+# So many numbers of a vector are taken at once where speed counts most, each by a name of its own.
+GROUP = 6
+
 
 def times(numbers, others):
     """Return the sum of the products of the numbers of two vectors."""
@@ -27,6 +30,30 @@ def without_factor(numbers):
     for number in numbers:
         factor = gcd(factor, number)
     return [number // factor for number in numbers] if factor > 1 else list(numbers)
+
+
+def packed(matrix):
+    """Return a matrix in groups of columns, each with the index of its first one, without groups that are 0."""
+    width = len(matrix[0]) if matrix else 0
+    rows = [spared(row) for row in matrix]
+    groups = [(at, [tuple(row[at:at + GROUP]) for row in rows]) for at in range(0, width, GROUP)]
+    return [(at, group) for at, group in groups if any([any(row) for row in group])]
+
+
+def spared(numbers):
+    """Return a vector with as many numbers 0 behind it as its last group may want."""
+    return [*numbers, 0, 0, 0, 0, 0]
+
+
+def stepped(total, groups, numbers):
+    """Return the sum of a vector and of the product of a packed matrix and another one, which must be spared."""
+    for at, rows in groups:
+        u, v, w, x, y, z = numbers[at:at + GROUP]
+        total = [
+            number + a * u + b * v + c * w + d * x + e * y + f * z
+            for number, (a, b, c, d, e, f) in zip(total, rows)
+        ]
+    return total
 
 
 class Span:

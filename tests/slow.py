@@ -79,3 +79,53 @@ def plain_entries(base, rows, shares, levels):
     places = places_below(base, levels)
     nodes = [next(place for place, entry in zip(places, row) if entry) for row in found]
     return nodes, found
+
+
+class Plainly:
+    """Sums of levels and rectangles of the named tables of a book, each as the sum over its blocks one level lower."""
+
+    def __init__(self, base, rows):
+        self.base = base
+        self.told = {name: (start, blocks) for name, start, blocks in rows}
+        self.totals, self.traces = {}, {}
+        # What is known of the last rectangle that was asked for.
+        self.asked, self.known = None, {}
+
+    def total(self, name, level):
+        if (name, level) not in self.totals:
+            start, blocks = self.told[name]
+            sides = range(self.base)
+            self.totals[name, level] = start if level == 0 else sum(
+                number * self.total(other, level - 1) for i in sides for j in sides for number, other in blocks[i][j])
+        return self.totals[name, level]
+
+    def trace(self, name, level):
+        if (name, level) not in self.traces:
+            start, blocks = self.told[name]
+            self.traces[name, level] = start if level == 0 else sum(
+                number * self.trace(other, level - 1) for i in range(self.base) for number, other in blocks[i][i])
+        return self.traces[name, level]
+
+    def area(self, name, level, first, last):
+        if self.asked != (level, first, last):
+            self.asked, self.known = (level, first, last), {}
+        return self._area(name, level, first, last)
+
+    def _area(self, name, level, first, last):
+        """Sum up what of each block lies within the rectangle, told by rows and columns of that block."""
+        key = (name, level, first, last)
+        if key in self.known:
+            return self.known[key]
+        side = self.base ** level
+        if first == (0, 0) and last == (side - 1, side - 1):
+            return self.total(name, level)
+        part, found = side // self.base, 0
+        for i in range(self.base):
+            for j in range(self.base):
+                low = max(first[0] - i * part, 0), max(first[1] - j * part, 0)
+                high = min(last[0] - i * part, part - 1), min(last[1] - j * part, part - 1)
+                if low[0] <= high[0] and low[1] <= high[1]:
+                    for number, other in self.told[name][1][i][j]:
+                        found += number * self._area(other, level - 1, low, high)
+        self.known[key] = found
+        return found
