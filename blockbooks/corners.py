@@ -7,12 +7,11 @@ from blockbooks.vectors import spared, stepped
 # How many levels a wide stride takes at once, by the base.
 AT_ONCE = {2: 4, 3: 2}
 # Making a wide stride takes as long as some corners of far levels do, and ever longer for more named tables.
-# So it is made for few of them alone, and only when so many corners of so far levels were asked for.
+# So it is made for few of them alone, and only when so many levels were gone through without it.
 FEW = 6
-FAR = 16
-OFTEN = 8
+ENOUGH = 800
 # How many corners, and how many edges, are kept for those who ask for them again.
-MOST_CORNERS = 1000
+MOST_CORNERS = 4000
 MOST_EDGES = 20
 
 
@@ -29,7 +28,7 @@ class Corners:
         self._many = len(steps[0][0])
         self._narrow = Stride(inmost(base, steps))
         self._wide = None
-        self._far_ones = 0
+        self._gone = 0
         self._corners = {}
         self._edges = {}
         self._ways = {}
@@ -45,22 +44,21 @@ class Corners:
         return self._corners[place]
 
     def _count(self, level):
-        """Take note that a corner is asked for, and make the wide stride if it is time to."""
-        if level >= FAR and self._many <= FEW:
-            self._far_ones += 1
-            if self._far_ones == OFTEN:
-                grid = inmost(self._base, self._steps)
-                for _ in range(AT_ONCE[self._base] - 1):
-                    grid = wider(self._steps, grid)
-                self._wide = Stride(grid)
-                # What is kept of ways and edges goes by narrow strides.
-                self._ways.clear()
-                self._edges.clear()
+        """Take note that a corner of a level is asked for, and make the wide stride if it is time to."""
+        self._gone += level
+        if self._wide is None and self._gone > ENOUGH and self._many <= FEW:
+            grid = inmost(self._base, self._steps)
+            for _ in range(AT_ONCE[self._base] - 1):
+                grid = wider(self._steps, grid)
+            self._wide = Stride(grid)
+            # What is kept of ways and edges goes by narrow strides.
+            self._ways.clear()
+            self._edges.clear()
 
     def _way_to(self, level):
         """Return, from level 0 on, the strides by which a level is reached, each with the level where it begins."""
         if level not in self._ways:
-            at_once = AT_ONCE[self._base] if self._wide is not None and level >= FAR else 1
+            at_once = 1 if self._wide is None else AT_ONCE[self._base]
             last = level - level % at_once
             strides = [(self._narrow if at_once == 1 else self._wide, below) for below in range(0, last, at_once)]
             self._ways[level] = strides + [(self._narrow, below) for below in range(last, level)]

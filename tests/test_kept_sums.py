@@ -5,7 +5,7 @@ import unittest
 
 from blockbooks.areas import area_sum, total_at, trace_at
 from blockbooks.books import Book
-from blockbooks.corners import FEW, MOST_CORNERS, MOST_EDGES, OFTEN
+from blockbooks.corners import ENOUGH, FEW, MOST_CORNERS, MOST_EDGES
 from blockbooks.errors import InvalidArea, InvalidLevel, InvalidPlace
 from blockbooks.forms import plain
 from blockbooks.tables import Table, table_named
@@ -103,7 +103,7 @@ class Far(unittest.TestCase):
             book, plainly = Book(base, rows), Plainly(base, rows)
             table = Table(book, random_shares(base, len(rows)))
             asked = [(level, rectangle(chance, base, level)) for level in [100, 99, 98, 97, 16, 100] * 2]
-            self.assertGreater(4 * len(asked), 2 * OFTEN)
+            self.assertGreater(sum(4 * level for level, _ in asked), 2 * ENOUGH)
             for level, corners in asked + asked[::-1]:
                 wanted = summed(table, plainly.area, level, *corners)
                 self.assertEqual(area_sum(table, level, *corners), wanted)
