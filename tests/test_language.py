@@ -110,6 +110,77 @@ class Language(unittest.TestCase):
                 if isinstance(node, ast.arg):
                     self.assertNotIn(node.arg, taken, (name, node.lineno))
 
+    def test_behind_a_star_of_a_call_stands_a_name(self):
+        for name, node in nodes(ast.Call):
+            for told in node.args:
+                if isinstance(told, ast.Starred):
+                    self.assertIsInstance(told.value, (ast.Name, ast.Attribute), (name, node.lineno))
+            self.assertNotIn(None, [told.arg for told in node.keywords], (name, node.lineno))
+
+    def test_keywords_of_builtins(self):
+        for name, node in nodes(ast.Call):
+            if isinstance(node.func, ast.Name) and node.func.id in BUILTINS:
+                found = [told.arg for told in node.keywords]
+                self.assertTrue(not found or (node.func.id == "sorted" and found == ["key"]), (name, node.lineno))
+
+    def test_what_is_iterated_at_once(self):
+        # What goes over something without being a list stands at once where it is gone over, or is kept as a range.
+        allowed = (ast.For, ast.comprehension)
+        for name, text in texts().items():
+            tree = ast.parse(text)
+            above = {child: node for node in ast.walk(tree) for child in ast.iter_child_nodes(node)}
+            for node in ast.walk(tree):
+                if isinstance(node, ast.Call) and isinstance(node.func, ast.Name) and node.func.id in ("zip", "enumerate", "reversed"):
+                    self.assertIsInstance(above[node], allowed, (name, node.lineno))
+
+    def test_errors_are_made_where_they_are_raised_and_own_ones_are_caught(self):
+        own = {node.name for _, node in nodes(ast.ClassDef)}
+        for name, node in nodes(ast.Raise):
+            self.assertTrue(isinstance(node.exc, ast.Call) and node.exc.func.id in own, (name, node.lineno))
+        for name, node in nodes(ast.ExceptHandler):
+            self.assertIn(node.type.id, own, (name, node.lineno))
+
+    def test_generators_stand_where_they_are_gone_over(self):
+        made = {node.name for _, node in nodes(ast.FunctionDef) if any(isinstance(part, ast.Yield) for part in ast.walk(node))}
+        for name, text in texts().items():
+            tree = ast.parse(text)
+            above = {child: node for node in ast.walk(tree) for child in ast.iter_child_nodes(node)}
+            for node in ast.walk(tree):
+                if isinstance(node, ast.Name) and node.id in made:
+                    self.assertIsInstance(above[node], ast.Call, (name, node.lineno))
+                    self.assertIsInstance(above[above[node]], (ast.For, ast.comprehension), (name, node.lineno))
+
+    def test_texts_within_files(self):
+        for name, node in nodes(ast.JoinedStr):
+            inner = [part for some in node.values if isinstance(some, ast.FormattedValue) for part in ast.walk(some.value)]
+            self.assertFalse([part for part in inner if isinstance(part, ast.Constant)], (name, node.lineno))
+        for name, node in nodes(ast.Constant):
+            if isinstance(node.value, str):
+                self.assertNotIn("%", node.value, (name, node.lineno))
+                self.assertNotIn("__", node.value, (name, node.lineno))
+
+    def test_no_name_is_a_method_and_an_attribute(self):
+        methods = {node.name for _, kind in nodes(ast.ClassDef) for node in kind.body if isinstance(node, ast.FunctionDef)}
+        for name, node in nodes(ast.Attribute):
+            if isinstance(node.ctx, ast.Store):
+                self.assertNotIn(node.attr, methods, (name, node.lineno))
+
+    def test_interface_stands_where_it_is_listed(self):
+        listed = {
+            "books": ["Book"], "tables": ["Table", "table_named"], "areas": ["total_at", "trace_at", "area_sum"],
+            "forms": ["plain", "rank_of", "nodes_of"], "parting": ["parting", "are_alike", "classes"],
+            "relations": ["relations", "mixture"], "ends": ["last_level", "alike_from"],
+            "identities": ["side_table", "identity_parts", "identity_of", "inverse_among"],
+            "joins": ["added", "scaled", "product", "entrywise", "transposed", "block_of", "framed"],
+            "rests": ["first_rest", "rests_of", "count_rest"],
+            "levels": ["total_rule", "trace_rule", "far_total", "far_trace"], "shelves": ["Shelf", "SmallShelf"],
+            "texts": ["show_book", "show_table"], "readings": ["read_book", "read_table"],
+        }
+        for name, wanted in listed.items():
+            tree = ast.parse(texts()[name + ".py"])
+            found = [node.name for node in tree.body if isinstance(node, (ast.FunctionDef, ast.ClassDef))]
+            self.assertLessEqual(set(wanted), set(found))
+
     def test_builtins_take_lists_and_no_generator_expressions(self):
         # A class has an __eq__, so any, all, sum and the like take a list.
         self.assertEqual([(name, node.lineno) for name, node in nodes((ast.GeneratorExp, ast.SetComp))], [])
