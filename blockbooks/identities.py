@@ -45,7 +45,8 @@ def _side_of(book, side):
     for coefficient, word in side:
         numbers[tuple(word)] = numbers.get(tuple(word), 0) + coefficient
     words = [word for word, number in numbers.items() if number != 0]
-    factors = {part: _factor(book, part) for word in words for part in word}
+    parts = sorted(set([part for word in words for part in word]))
+    factors = {part: _factor(book, part) for part in parts}
     several_told = [_product(book.base, [factors[part] for part in word]) for word in words]
     return sum_of(book.base, several_told, [numbers[word] for word in words])
 
