@@ -4,6 +4,9 @@ from blockbooks.corners import Corners
 from blockbooks.sums import Sums
 from blockbooks.vectors import times
 
+# Making Corners takes as long as rectangles of some near levels do without them.
+ENOUGH = 40
+
 
 class System:
     """Tables that are told by blocks of each other. What it tells never changes.
@@ -20,6 +23,8 @@ class System:
         self._totals = None
         self._traces = None
         self._corners = None
+        # How many levels were asked for rectangles.
+        self._asked = 0
         self._parts = {}
 
     @property
@@ -40,9 +45,10 @@ class System:
             self._traces = Sums(self.starts, self._summed([(side, side) for side in range(self._base)]))
         return self._traces
 
-    def corners(self):
-        """Return the Corners of all levels."""
-        if self._corners is None:
+    def corners(self, level):
+        """Return the Corners of all levels, or None as long as so little was asked that they are not worth making."""
+        self._asked += level
+        if self._corners is None and self._asked > ENOUGH:
             self._corners = Corners(self._base, self.steps, self.totals())
         return self._corners
 

@@ -109,6 +109,17 @@ class Far(unittest.TestCase):
                 self.assertEqual(area_sum(table, level, *corners), wanted)
                 self.assertEqual(area_sum(Table(Book(base, rows), table.shares), level, *corners), wanted)
 
+    def test_one_rectangle_of_a_book_made_anew(self):
+        # Nothing is kept for so little: the rectangle is summed up by its parts.
+        with at_once(120):
+            for seed, (base, rows) in enumerate(samples()):
+                chance, plainly = random.Random(seed), Plainly(base, rows)
+                for level in [0, 1, 2, 3, 4, 5, 9, 20, 39, 40, 41]:
+                    for _ in range(3):
+                        corners = rectangle(chance, base, level)
+                        table = Table(Book(base, rows), random_shares(seed + level, len(rows)))
+                        self.assertEqual(area_sum(table, level, *corners), summed(table, plainly.area, level, *corners))
+
     def test_more_than_what_is_kept(self):
         # Corners and edges are forgotten when there are too many, and worked out anew.
         base, rows = 2, ROWS_OF_BITS
