@@ -34,11 +34,7 @@ def area_sum(table, level, first, last):
     corners = system.corners(level)
     if corners is None:
         return _sum_of_parts(system, shares, level, first, last)
-    top, left, bottom, right = first[0], first[1], last[0] + 1, last[1] + 1
-    # Of all that stands above and left of its end, what stands above the rectangle and what stands left of it
-    # is taken away, and what stands above and left of it was taken away twice.
-    whole = times(shares, corners.at(level, bottom, right)) + times(shares, corners.at(level, top, left))
-    return whole - times(shares, corners.at(level, top, right)) - times(shares, corners.at(level, bottom, left))
+    return times(shares, corners.area(level, first, (last[0] + 1, last[1] + 1)))
 
 
 def _sum_of_parts(system, shares, level, first, last):

@@ -27,13 +27,21 @@ class Stride:
         self._steps_before = {}
         self._whole = {}
 
-    def corner_step(self, row, column):
-        """Return the step to a corner from that within its block, and from the edges left of it and above it."""
-        at = (row, column)
-        if at not in self._steps:
-            parts = (self._grid[row][column], self._above[column][row], self._left[row][column])
-            self._steps[at] = packed([inner + above + left for inner, above, left in zip(*parts)])
-        return self._steps[at]
+    def block_step(self, row, column, above, left):
+        """Return the step to what lies in a block from what lies in a block of it, one stride further in.
+
+        If it is asked for, the step goes also from the edge by which the blocks above count, and from the one by
+        which the blocks left of it count.
+        """
+        key = (row, column, above, left)
+        if key not in self._steps:
+            parts = [self._grid[row][column]]
+            if above:
+                parts.append(self._above[column][row])
+            if left:
+                parts.append(self._left[row][column])
+            self._steps[key] = packed([[number for line in lines for number in line] for lines in zip(*parts)])
+        return self._steps[key]
 
     def whole_before(self, totals, below, row, column):
         """Return the sums of all blocks in the first block rows and block columns, by the totals of a level below."""

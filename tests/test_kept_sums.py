@@ -47,8 +47,19 @@ def rectangle(chance, base, level):
             return min(last, base ** chance.randint(0, level) - chance.randint(0, 1))
         return chance.randint(0, last)
 
-    top, bottom = sorted([line(), line()])
-    left, right = sorted([line(), line()])
+    def lines():
+        one = line()
+        kind = chance.randrange(4)
+        if kind == 0:
+            # Close together, or in one block that is not the whole level.
+            return sorted([one, min(last, one + chance.randrange(base ** chance.randint(0, level)))])
+        if kind == 1:
+            side = base ** chance.randint(0, level)
+            return one - one % side, one - one % side + side - 1
+        return sorted([one, line()])
+
+    top, bottom = lines()
+    left, right = lines()
     return (top, left), (bottom, right)
 
 
@@ -114,10 +125,24 @@ class Far(unittest.TestCase):
         with at_once(120):
             for seed, (base, rows) in enumerate(samples()):
                 chance, plainly = random.Random(seed), Plainly(base, rows)
-                for level in [0, 1, 2, 3, 4, 5, 9, 20, 39, 40, 41]:
+                for level in [0, 1, 2, 3, 4, 5, 9, 20, 39, 40, 41, 100]:
                     for _ in range(3):
                         corners = rectangle(chance, base, level)
                         table = Table(Book(base, rows), random_shares(seed + level, len(rows)))
+                        self.assertEqual(area_sum(table, level, *corners), summed(table, plainly.area, level, *corners))
+
+    def test_small_and_narrow_rectangles(self):
+        with at_once(120):
+            for seed, (base, rows) in enumerate(samples()):
+                chance, plainly = random.Random(seed), Plainly(base, rows)
+                table = Table(Book(base, rows), random_shares(seed, len(rows)))
+                for _ in range(40):
+                    level = chance.choice([5, 17, 64, 99, 100])
+                    last = base ** level - 1
+                    wide = [base ** chance.randint(0, level) for _ in range(2)]
+                    first = chance.randint(0, last), chance.choice([0, last, chance.randint(0, last)])
+                    end = min(last, first[0] + chance.randrange(wide[0])), min(last, first[1] + chance.randrange(wide[1]))
+                    for corners in [(first, end), (first[::-1], end[::-1])]:
                         self.assertEqual(area_sum(table, level, *corners), summed(table, plainly.area, level, *corners))
 
     def test_more_than_what_is_kept(self):
