@@ -209,6 +209,16 @@ class Errors(unittest.TestCase):
 class Soon(unittest.TestCase):
     """Far levels, asked again and again."""
 
+    def test_several_levels_at_once(self):
+        for base in (2, 3):
+            table = Table(Book(base, full_rows(base)), [1, 2, 3, 4, 5, 6])
+            corners = table.book.system.corners(100)
+            self.assertEqual(len(corners._way_to(100)), 100)
+            for at in range(12):
+                area_sum(table, 100, (at, 3 * at), (base ** 99 + at, base ** 98 + at))
+            self.assertLessEqual(len(corners._way_to(100)), 50)
+            self.assertIs(table.book.system.corners(100), corners)
+
     def test_totals_and_traces(self):
         with at_once(10):
             for base in (2, 3):
